@@ -1,0 +1,1 @@
+"""Resampler: replay, count and certify random resampling."""

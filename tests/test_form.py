@@ -1,0 +1,107 @@
+"""Checks of the interface and of the plainest rules for the form of the package."""
+
+import ast
+import importlib
+import inspect
+import pathlib
+import unittest
+import warnings
+
+ROOT = pathlib.Path(__file__).resolve().parent.parent
+PACKAGE = ROOT / "resampler"
+LIBRARY = {
+    "heapq": {"heappush", "heappop", "heapify", "heapreplace", "heappushpop"},
+    "math": {"gcd", "lcm", "isqrt", "comb", "perm", "factorial"},
+    "itertools": {"product", "combinations", "permutations", "chain", "accumulate", "pairwise", "islice",
+                  "zip_longest"},
+    "collections": {"defaultdict", "deque"},
+}
+FUNCTIONS = {
+    "validation": {
+        "is_name": "(value)",
+        "is_integer": "(value, low, high)",
+        "parse_integer": "(text, *, low=0, high=999999)",
+        "split_words": "(text)",
+    },
+    "ratios": {
+        "Ratio": "(numerator, denominator=1)",
+        "ratio_sum": "(values, *, start=None)",
+        "ratio_product": "(values)",
+        "parse_ratio": "(text)",
+    },
+}
+METHODS = {
+    "ratios.Ratio": {
+        "num": "(self)", "den": "(self)", "sign": "(self)", "add": "(self, other)", "subtract": "(self, other)",
+        "multiply": "(self, other)", "divide": "(self, other)", "less_than": "(self, other)",
+        "__eq__": "(self, other)", "__str__": "(self)",
+    },
+}
+
+
+def files():
+    return sorted(PACKAGE.rglob("*.py"))
+
+
+def parsed(path):
+    return ast.parse(path.read_text("utf-8"))
+
+
+class Interface(unittest.TestCase):
+    def test_functions_and_classes(self):
+        for name, signatures in FUNCTIONS.items():
+            module = importlib.import_module("resampler." + name)
+            for thing, signature in signatures.items():
+                found = getattr(module, thing)
+                self.assertEqual(found.__module__, "resampler." + name)
+                self.assertEqual(str(inspect.signature(found)), signature)
+
+    def test_methods_stand_in_their_class(self):
+        for place, signatures in METHODS.items():
+            name, kind = place.split(".")
+            found = vars(getattr(importlib.import_module("resampler." + name), kind))
+            for method, signature in signatures.items():
+                self.assertEqual(str(inspect.signature(found[method])), signature)
+
+
+class Form(unittest.TestCase):
+    def test_folder_holds_nothing_else(self):
+        for path in PACKAGE.rglob("*"):
+            if "__pycache__" not in path.parts and path.is_file():
+                self.assertEqual(path.suffix, ".py", path)
+        self.assertTrue((PACKAGE / "__init__.py").is_file())
+
+    def test_lines_and_characters(self):
+        for path in files():
+            text = path.read_bytes().decode("ascii")
+            self.assertLessEqual(text.count("\n"), 399, path)
+            for line in text.split("\n"):
+                self.assertLessEqual(len(line), 120, path)
+                self.assertTrue(all(" " <= sign <= "~" for sign in line), path)
+
+    def test_functions_are_short(self):
+        for path in files():
+            for node in ast.walk(parsed(path)):
+                if isinstance(node, ast.FunctionDef):
+                    self.assertLessEqual(node.end_lineno - node.lineno + 1, 40, (path, node.name))
+
+    def test_imports(self):
+        for path in files():
+            for node in ast.walk(parsed(path)):
+                self.assertNotIsInstance(node, ast.Import, path)
+                if isinstance(node, ast.ImportFrom):
+                    self.assertEqual(node.level, 0, path)
+                    if not node.module.startswith("resampler."):
+                        allowed = LIBRARY[node.module]
+                        self.assertLessEqual({one.name for one in node.names}, allowed, path)
+                        self.assertEqual({one.asname for one in node.names}, {None}, path)
+
+    def test_python_gives_no_warning(self):
+        with warnings.catch_warnings():
+            warnings.simplefilter("error")
+            for path in files():
+                compile(path.read_text("utf-8"), str(path), "exec")
+
+
+if __name__ == "__main__":
+    unittest.main()
