@@ -1,7 +1,10 @@
 """Values of every kind that the document calls any value."""
 
 from resampler.errors import InvalidName
+from resampler.heaps import Heap
+from resampler.problems import Problem
 from resampler.ratios import Ratio
+from resampler.sampler import Sampler, choose_last, round_robin
 
 
 def double(value):
@@ -12,8 +15,15 @@ def containers():
     return [[], [1], ["a"], [Ratio(1)], [[1]], (), (1,), ("a",), (1, 2), (Ratio(1),), {}, {"a": 1}, {1: "a"}]
 
 
+def objects():
+    """Return objects of the package; a problem, a sampler and a heap come first."""
+    problem = Problem([("a", 2)], [("x", ["a"], [(1,)])])
+    return [problem, Sampler(problem, {"a": [1, 0]}), Heap(problem, [("x", (1,))]), Problem([("a", 1)]),
+            choose_last, round_robin(2), InvalidName("a")]
+
+
 def neither_strings_nor_numbers():
-    return [None, True, False, double, lambda: 1, InvalidName("a")] + containers()
+    return [None, True, False, double, lambda: 1] + objects() + containers()
 
 
 def strings():
@@ -42,3 +52,18 @@ def non_ratios():
 
 def all_values():
     return non_ratios() + ratios()
+
+
+def without_kind(kind):
+    """Return all values but the objects of a class of the package."""
+    return [value for value in all_values() if not isinstance(value, kind)]
+
+
+def non_lists():
+    """Return all values that are neither lists nor tuples."""
+    return [value for value in all_values() if not isinstance(value, (list, tuple))]
+
+
+def non_integers_from(low, high):
+    """Return all kinds of values that are no integers from low to high."""
+    return non_integers() + [low - 1, high + 1, low - 10 ** 29, high + 10 ** 29]

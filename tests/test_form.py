@@ -29,12 +29,50 @@ FUNCTIONS = {
         "ratio_product": "(values)",
         "parse_ratio": "(text)",
     },
+    "problems": {
+        "Problem": "(variables, events=())",
+        "find_overlap": "(problem)",
+        "is_exclusive": "(problem)",
+        "shows_overlap": "(problem, value)",
+        "valid_assignments": "(problem, *, limit=4096)",
+        "without_events": "(problem, names)",
+        "combine_problems": "(one, other)",
+    },
+    "sampler": {
+        "Sampler": "(problem, tapes)",
+        "run_sampler": "(sampler, choose=None, *, max_steps=240)",
+        "choose_last": "(events)",
+        "round_robin": "(start=0)",
+    },
+    "heaps": {
+        "Heap": "(problem, pieces=())",
+        "heap_of": "(sampler)",
+    },
 }
 METHODS = {
     "ratios.Ratio": {
         "num": "(self)", "den": "(self)", "sign": "(self)", "add": "(self, other)", "subtract": "(self, other)",
         "multiply": "(self, other)", "divide": "(self, other)", "less_than": "(self, other)",
         "__eq__": "(self, other)", "__str__": "(self)",
+    },
+    "problems.Problem": {
+        "variables": "(self)", "events": "(self)", "size": "(self, variable)", "scope": "(self, event)",
+        "bad_tuples": "(self, event)", "are_adjacent": "(self, one, other)", "neighbors": "(self, event)",
+        "is_assignment": "(self, value)", "occurs": "(self, event, assignment)", "occurring": "(self, assignment)",
+        "assignment_count": "(self)", "probability": "(self, event)", "__eq__": "(self, other)", "__len__": "(self)",
+    },
+    "sampler.Sampler": {
+        "problem": "(self)", "assignment": "(self)", "remaining": "(self, variable)", "dropped": "(self, variable)",
+        "occurring": "(self)", "ready": "(self)", "is_valid": "(self)", "is_stuck": "(self)",
+        "resample": "(self, event)", "history": "(self)", "undo": "(self)", "copied": "(self)",
+        "__eq__": "(self, other)", "__len__": "(self)",
+    },
+    "heaps.Heap": {
+        "problem": "(self)", "layers": "(self)", "pieces": "(self)", "bottom": "(self)", "top": "(self)",
+        "with_piece": "(self, piece)", "without_top": "(self, piece)", "concatenated": "(self, other)",
+        "reversed_heap": "(self)", "is_order": "(self, value)", "orders": "(self, *, limit=500)",
+        "dropped": "(self, variable)", "is_lower_part_of": "(self, other)", "__eq__": "(self, other)",
+        "__len__": "(self)", "__str__": "(self)",
     },
 }
 

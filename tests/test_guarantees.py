@@ -1,0 +1,147 @@
+"""Promises over problems, samplers and heaps together."""
+
+import random
+
+from resampler.heaps import Heap, heap_of
+from resampler.problems import Problem, find_overlap, is_exclusive, valid_assignments
+from resampler.sampler import Sampler, choose_last, round_robin, run_sampler
+from tests.support import (PackageTest, demo, made_exclusive, pair, problems, random_history, random_tapes, rows_of)
+
+
+def names_of(problem):
+    return [name for name, _ in problem.variables()]
+
+
+def all_endings(sampler):
+    """Return for each sequence of choices a sampler at the end of the run."""
+    ready = sampler.ready()
+    if not ready:
+        return [sampler.copied()]
+    found = []
+    for event in ready:
+        sampler.resample(event)
+        found.extend(all_endings(sampler))
+        sampler.undo()
+    return found
+
+
+def outcome(sampler):
+    dropped = [sampler.dropped(name) for name in names_of(sampler.problem())]
+    return [heap_of(sampler), sampler.assignment(), dropped, sampler.is_valid(), sampler.is_stuck()]
+
+
+def ring():
+    """Return an exclusive problem in which each of four events is adjacent to two others."""
+    return Problem([(name, 3) for name in "abcd"],
+                   [("p", ["a", "b"], [(0, 1), (0, 2), (2, 1)]), ("q", ["b", "c"], [(0, 1), (0, 2)]),
+                    ("r", ["c", "d"], [(0, 1), (0, 0)]), ("s", ["d", "a"], [(2, 1)])])
+
+
+def exclusive_problems(count, seed):
+    """Return exclusive problems, some of them with many runs from the same tapes."""
+    found = [made_exclusive(problem) for problem in problems(count, seed)]
+    return found + [demo(), pair(), ring()] * (count // 5)
+
+
+def tapes_for(heap, assignment):
+    """Return tapes with the values that the heap drops and then those of the assignment."""
+    return {name: heap.dropped(name) + [value] for name, value in zip(names_of(heap.problem()), assignment)}
+
+
+def eventful_tapes(source, problem):
+    """Return tapes of which a random number of values lead through a random history."""
+    heap = Heap(problem, random_history(source, problem, source.randint(0, 7)))
+    more = random_tapes(source, problem, longest=3)
+    tapes = {name: heap.dropped(name) + more[name] for name in more}
+    return {name: tape[:source.randint(1, len(tape) + 3)] for name, tape in tapes.items()}
+
+
+class ExclusiveProblems(PackageTest):
+    def test_all_runs_end_alike(self):
+        source, kinds, most = random.Random(90), [], 0
+        for problem in exclusive_problems(250, 90):
+            self.assertIs(is_exclusive(problem), True)
+            sampler = Sampler(problem, eventful_tapes(source, problem))
+            endings = all_endings(sampler)
+            for one in endings:
+                self.assertEqual(outcome(one), outcome(endings[0]))
+            orders = {tuple(one.history()) for one in endings}
+            self.assertEqual(len(orders), len(endings))
+            # The runs are all histories of the heap: whatever may come first can be chosen.
+            self.assertEqual(sorted(orders), sorted([tuple(one) for one in heap_of(endings[0]).orders()]))
+            kinds.append(endings[0].is_valid())
+            most = max(most, len(endings))
+        self.assertGreater(min(kinds.count(True), kinds.count(False), most), 20)
+
+    def test_runs_with_choice_functions_end_alike(self):
+        source = random.Random(91)
+        for problem in exclusive_problems(100, 91):
+            tapes = random_tapes(source, problem, longest=12)
+            first = Sampler(problem, tapes)
+            run_sampler(first)
+            for choose in (choose_last, round_robin(), round_robin(3), source.choice, min, max):
+                other = Sampler(problem, tapes)
+                run_sampler(other, choose)
+                self.assertEqual(outcome(other), outcome(first))
+
+    def test_tapes_lead_to_heap_and_assignment(self):
+        source, seen = random.Random(92), 0
+        for problem in exclusive_problems(120, 92):
+            for length in (0, 1, 3, 6):
+                heap = Heap(problem, random_history(source, problem, length))
+                for assignment in valid_assignments(problem)[:6]:
+                    for one in all_endings(Sampler(problem, tapes_for(heap, assignment))):
+                        self.assertEqual([heap_of(one), one.assignment(), one.is_valid()], [heap, assignment, True])
+                        seen += 1
+        self.assertGreater(seen, 1000)
+
+    def test_further_values_change_nothing(self):
+        source = random.Random(93)
+        for problem in exclusive_problems(60, 93):
+            heap = Heap(problem, random_history(source, problem, 5))
+            for assignment in valid_assignments(problem)[:3]:
+                more, tapes = random_tapes(source, problem), tapes_for(heap, assignment)
+                sampler = Sampler(problem, {name: tapes[name] + more[name] for name in tapes})
+                run_sampler(sampler, source.choice)
+                self.assertEqual([heap_of(sampler), sampler.assignment()], [heap, assignment])
+
+    def test_only_exclusive_problems_promise_it(self):
+        problem = Problem([("a", 2)], [("x", ["a"], [(1,)]), ("y", ["a"], [(1,)])])
+        endings = all_endings(Sampler(problem, {"a": [1, 0]}))
+        self.assertEqual([str(heap_of(one)) for one in endings], ["x:1", "y:1"])
+
+
+class AllProblems(PackageTest):
+    def test_heap_and_assignment_determine_the_consumed_values(self):
+        source = random.Random(94)
+        for problem in problems(100, 94):
+            tapes = random_tapes(source, problem, longest=9)
+            sampler = Sampler(problem, tapes)
+            run_sampler(sampler, source.choice, max_steps=source.randrange(9))
+            consumed = tapes_for(heap_of(sampler), sampler.assignment())
+            self.assertEqual(consumed, {name: tapes[name][:len(consumed[name])] for name in tapes})
+            again = Sampler(problem, consumed)
+            for event, values in source.choice(heap_of(sampler).orders()):
+                self.assertEqual(again.resample(event), values)
+            self.assertEqual([heap_of(again), again.assignment()], [heap_of(sampler), sampler.assignment()])
+
+    def test_renaming_changes_the_names_only(self):
+        source = random.Random(95)
+        for problem in problems(100, 95):
+            names = dict(zip(names_of(problem), ["zz", "m", "abcdefgh", "k"]))
+            events = dict(zip(problem.events(), ["r", "ee", "d", "a"]))
+            other = Problem([(names[name], size) for name, size in problem.variables()],
+                            [(events[event], [names[name] for name in scope], bad_tuples)
+                             for event, scope, bad_tuples in rows_of(problem)])
+            overlap = find_overlap(problem)
+            if overlap is not None:
+                overlap = (events[overlap[0]], events[overlap[1]], overlap[2])
+            self.assertEqual(find_overlap(other), overlap)
+            self.assertEqual(valid_assignments(other), valid_assignments(problem))
+            tapes = random_tapes(source, problem)
+            one, two = Sampler(problem, tapes), Sampler(other, {names[name]: tapes[name] for name in tapes})
+            self.assertEqual(run_sampler(one, round_robin(1)), run_sampler(two, round_robin(1)))
+            self.assertEqual(two.history(), [(events[event], values) for event, values in one.history()])
+            self.assertEqual([two.assignment(), two.is_valid()], [one.assignment(), one.is_valid()])
+            self.assertEqual(heap_of(two).layers(), [[(events[event], values) for event, values in layer]
+                                                     for layer in heap_of(one).layers()])

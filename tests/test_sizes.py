@@ -1,0 +1,161 @@
+"""The largest sizes that the document allows: each single call returns within a second."""
+
+import random
+
+from resampler.errors import TooLarge
+from resampler.heaps import Heap, heap_of
+from resampler.problems import (Problem, combine_problems, find_overlap, is_exclusive, shows_overlap,
+                                valid_assignments, without_events)
+from resampler.sampler import Sampler, choose_last, round_robin, run_sampler
+from tests.support import (EVENT_NAMES, VARIABLE_NAMES, PackageTest, largest_exclusive, largest_problem, made_exclusive,
+                           pieces_of, rows_of)
+
+
+def largest_problems():
+    return [largest_problem(), largest_exclusive(), made_exclusive(largest_problem())]
+
+
+def single_events(count):
+    """Return a problem with events of which no two are adjacent."""
+    names = VARIABLE_NAMES[:count]
+    return Problem([(name, 6) for name in names], [(name, [name], [(value,) for value in range(6)]) for name in names])
+
+
+def gate(count=7):
+    """Return a problem in which the last event is adjacent to all others, which are apart."""
+    names = VARIABLE_NAMES[:count]
+    single = [(name, [name], [(0,), (1,)]) for name in names[:4]]
+    return Problem([(name, 6) for name in names], single + [("gate", names[:4], [(5, 4, 3, 2), (0, 0, 0, 0)])])
+
+
+class Problems(PackageTest):
+    def test_sizes(self):
+        for problem in largest_problems()[:2]:
+            self.assertEqual([len(problem), {size for _, size in problem.variables()}], [8, {6}])
+            for _, scope, bad_tuples in rows_of(problem):
+                self.assertEqual([len(scope), len(bad_tuples)], [4, 12])
+
+    def test_reading(self):
+        for problem in largest_problems():
+            self.assertEqual(self.timed(Problem, problem.variables(), rows_of(problem)), problem)
+            self.assertEqual(self.timed(problem.assignment_count), 6 ** 8)
+            for assignment in ((0,) * 8, (5,) * 8, (0, 0, 5, 0, 0, 2, 0, 0)):
+                found = self.timed(problem.occurring, assignment)
+                self.assertEqual(found, [event for event in EVENT_NAMES if problem.occurs(event, assignment)])
+            for event in EVENT_NAMES:
+                self.timed(problem.neighbors, event)
+                self.timed(problem.probability, event)
+
+    def test_overlaps(self):
+        wide, narrow, other = largest_problems()
+        self.assertIs(shows_overlap(wide, self.timed(find_overlap, wide)), True)
+        for problem in (narrow, other):
+            self.assertIsNone(self.timed(find_overlap, problem))
+            self.assertIs(self.timed(is_exclusive, problem), True)
+
+    def test_valid_assignments(self):
+        variables = [(name, size) for name, size in zip(VARIABLE_NAMES, [2, 2, 2, 2, 4, 4, 4, 4])]
+        events = []
+        for place, name in enumerate(EVENT_NAMES):
+            scope = [VARIABLE_NAMES[(place + step) % 8] for step in (0, 1, 2, 3)]
+            events.append((name, scope, [(at // 8, at // 4 % 2, at // 2 % 2, at % 2) for at in range(12)]))
+        problem = Problem(variables, events)
+        found = self.timed(valid_assignments, problem)
+        self.assertEqual(problem.assignment_count(), 4096)
+        self.assertEqual([len(found) > 0, [problem.occurring(one) for one in found]], [True, [[]] * len(found)])
+        with self.assertRaises(TooLarge):
+            self.timed(valid_assignments, largest_problem())
+
+    def test_parts_and_sums(self):
+        problem = largest_problem()
+        self.assertEqual(self.timed(without_events, problem, EVENT_NAMES[1:]).events(), EVENT_NAMES[:1])
+        halves = [Problem([(name, 6) for name in names], [(name, names, [(0, 1, 2, at) for at in range(6)])
+                                                          for name in names])
+                  for names in (VARIABLE_NAMES[:4], VARIABLE_NAMES[4:])]
+        self.assertEqual(len(self.timed(combine_problems, *halves)), 8)
+
+
+class Samplers(PackageTest):
+    def samplers(self):
+        source = random.Random(70)
+        for problem in largest_problems():
+            tapes = {name: [source.randrange(6) for _ in range(25)] for name in VARIABLE_NAMES}
+            yield Sampler(problem, tapes)
+            yield Sampler(problem, {name: [0] * 25 for name in VARIABLE_NAMES})
+
+    def test_runs(self):
+        for sampler in self.samplers():
+            for choose in (None, choose_last, round_robin(), random.Random(71).choice):
+                copy = self.timed(sampler.copied)
+                steps = self.timed(run_sampler, copy, choose)
+                self.assertEqual([steps, copy.ready()], [len(copy), []])
+                self.assertEqual(self.timed(heap_of, copy).dropped("a"), copy.dropped("a"))
+                while len(copy):
+                    self.timed(copy.undo)
+                self.assertEqual(copy, sampler)
+
+    def test_longest_run(self):
+        problem = single_events(5)
+        sampler = Sampler(problem, {name: [1, 2, 3, 4, 5] * 8 for name in "abcde"})
+        self.assertEqual(self.timed(run_sampler, sampler), 195)
+        self.assertEqual([len(sampler.history()), sampler.is_stuck(), len(sampler.dropped("e"))], [195, True, 39])
+        heap = self.timed(heap_of, sampler)
+        self.assertEqual([len(heap.layers()), len(heap.top())], [39, 5])
+        again = Sampler(problem, {name: [1, 2, 3, 4, 5] * 8 for name in "abcde"})
+        self.timed(run_sampler, again, choose_last)
+        self.assertEqual(self.timed(heap_of, again), heap)
+
+
+class Heaps(PackageTest):
+    def histories(self):
+        source = random.Random(72)
+        for problem in largest_problems() + [single_events(8), gate()]:
+            pieces = pieces_of(problem)
+            yield problem, [source.choice(pieces) for _ in range(240)]
+            yield problem, [pieces[0]] * 240
+
+    def test_heaps(self):
+        for problem, history in self.histories():
+            heap = self.timed(Heap, problem, history)
+            self.assertEqual([self.timed(len, heap), len(self.timed(heap.pieces))], [240, 240])
+            self.assertIs(self.timed(heap.is_order, history), True)
+            self.assertIs(self.timed(heap.is_order, heap.pieces()), True)
+            self.assertEqual(sum([len(layer) for layer in self.timed(heap.layers)]), 240)
+            self.assertEqual(self.timed(str, heap).count(":"), 240)
+            self.assertEqual(self.timed(heap.reversed_heap).reversed_heap(), heap)
+            self.assertIs(self.timed(heap.is_lower_part_of, heap), True)
+            half = Heap(problem, history[:120])
+            self.assertEqual(self.timed(half.concatenated, Heap(problem, history[120:])), heap)
+            self.assertIs(self.timed(half.is_lower_part_of, heap), True)
+            self.assertIs(self.timed(heap.is_lower_part_of, half), False)
+            piece = self.timed(heap.top)[-1]
+            self.assertEqual(self.timed(self.timed(heap.without_top, piece).with_piece, piece), heap)
+            for name, _ in problem.variables():
+                self.timed(heap.dropped, name)
+
+    def test_most_orders(self):
+        problem = single_events(8)
+        chain = [("a", (0,))] * 238
+        self.assertEqual(len(self.timed(Heap(problem, chain + [("b", (0,))]).orders)), 239)
+        self.assertEqual(len(self.timed(Heap(problem, chain).orders)), 1)
+        for history in (chain + [("b", (0,)), ("c", (0,))], [(name, (1,)) for name in VARIABLE_NAMES] * 30,
+                        [("a", (1,))] * 120 + [("b", (5,))] * 120):
+            with self.assertRaises(TooLarge) as context:
+                self.timed(Heap(problem, history).orders)
+            self.assertEqual(context.exception.count, 501)
+
+    def test_orders_that_part_early_or_late(self):
+        problem = gate()
+        chain, apart = [("gate", (0, 0, 0, 0))], [(name, (1,)) for name in "abcd"]
+        for history, count in [(apart + chain * 236, 24), (chain * 236 + apart, 24), (apart + chain * 233 + apart[:3], 144),
+                               (apart + chain * 231 + apart[:3] + chain + apart[1:2], 144),
+                               (apart + chain * 232 + apart[:3] + chain, 144),
+                               (apart[:3] + chain * 230 + apart[:3] + chain + apart[1:3], 72),
+                               (apart[:2] + (chain + apart[:2]) * 7 + chain * 217, 256)]:
+            found = self.timed(Heap(problem, history).orders)
+            self.assertEqual([len(found), len({tuple(one) for one in found})], [count, count])
+        found = self.timed(Heap(problem, apart[:4] + chain * 100 + apart[:3] + chain * 130 + apart[:2]).orders, limit=288)
+        self.assertEqual(len(found), 288)
+        with self.assertRaises(TooLarge) as context:
+            self.timed(Heap(problem, apart + chain * 231 + apart + chain).orders, limit=500)
+        self.assertEqual(context.exception.count, 501)
