@@ -1,6 +1,6 @@
 """Checks that several modules share."""
 
-from resampler.errors import DuplicateName
+from resampler.errors import DuplicateName, InvalidNames, UnknownName
 
 
 def is_list(value, low, high):
@@ -15,3 +15,19 @@ def check_distinct(names):
         if name in seen:
             raise DuplicateName(name)
         seen[name] = True
+
+
+def check_known(value, known):
+    """Check that a value is one of a list of names."""
+    if value not in known:
+        raise UnknownName(value)
+
+
+def check_names(names, known):
+    """Check that a value is a list of at most eight distinct ones of the known names."""
+    if not is_list(names, 0, 8):
+        raise InvalidNames(names)
+    for place, name in enumerate(names):
+        check_known(name, known)
+        if name in names[:place]:
+            raise DuplicateName(name)

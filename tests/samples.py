@@ -1,6 +1,7 @@
 """Values of every kind that the document calls any value."""
 
 from resampler.errors import InvalidName
+from resampler.graphs import Graph
 from resampler.heaps import Heap
 from resampler.problems import Problem
 from resampler.ratios import Ratio
@@ -19,7 +20,7 @@ def objects():
     """Return objects of the package; a problem, a sampler and a heap come first."""
     problem = Problem([("a", 2)], [("x", ["a"], [(1,)])])
     return [problem, Sampler(problem, {"a": [1, 0]}), Heap(problem, [("x", (1,))]), Problem([("a", 1)]),
-            choose_last, round_robin(2), InvalidName("a")]
+            Graph(["x", "y"], [("x", "y")]), choose_last, round_robin(2), InvalidName("a")]
 
 
 def neither_strings_nor_numbers():

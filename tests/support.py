@@ -1,11 +1,14 @@
-"""What the tests of problems, samplers and heaps share."""
+"""What the tests share."""
 
 import random
 import time
 import unittest
-from itertools import product
+from fractions import Fraction
+from itertools import combinations, product
 
+from resampler.graphs import Graph
 from resampler.problems import Problem
+from resampler.ratios import Ratio
 
 VARIABLE_NAMES = ["a", "b", "c", "d", "e", "f", "g", "h"]
 EVENT_NAMES = ["x", "y", "z", "u", "v", "w", "s", "t"]
@@ -34,7 +37,7 @@ class PackageTest(unittest.TestCase):
         self.assertIs(type(context.exception), kind)
 
     def assert_new_lists(self, action):
-        """Check that a call returns a list that is new each time, and so are the lists in it."""
+        """Check that the lists and dicts in what a call returns are new each time, inner ones too."""
         one, other = action(), action()
         self.assertEqual(one, other)
         found = lists_in(one) + lists_in(other)
@@ -52,10 +55,13 @@ class PackageTest(unittest.TestCase):
 
 
 def lists_in(value):
-    """Return a list and the lists inside of it; all are to have items, to be told apart."""
-    if not isinstance(value, list):
-        return []
-    return [value] + [inner for item in value for inner in lists_in(item)]
+    """Return the lists and dicts in a value, itself included; all are to have items, to be told apart."""
+    if isinstance(value, dict):
+        return [value] + [inner for item in value.values() for inner in lists_in(item)]
+    if isinstance(value, (list, tuple)):
+        inside = [inner for item in value for inner in lists_in(item)]
+        return [value] + inside if isinstance(value, list) else inside
+    return []
 
 
 def fresh(text):
@@ -173,3 +179,42 @@ def largest_exclusive():
         scope = ["a", "h", "bcdefg"[place % 6], "cdefgb"[place % 6]]
         events.append((name, scope, [(place % 6, place // 6, at // 6, at % 6) for at in range(12)]))
     return Problem(variables, events)
+
+
+def fraction(ratio):
+    return Fraction(ratio.num(), ratio.den())
+
+
+def path():
+    """Return a graph of three names in a row."""
+    return Graph(["x", "y", "z"], [("z", "y"), ("x", "y")])
+
+
+def quarters():
+    return {"x": Ratio(1, 4), "y": Ratio(1, 4), "z": Ratio(1, 4)}
+
+
+def adjacent(graph, one, other):
+    """Tell by the edges whether two names are adjacent."""
+    return one == other or (one, other) in graph.edges() or (other, one) in graph.edges()
+
+
+def random_graph(source, size, share=0.5):
+    names = source.sample(EVENT_NAMES, size)
+    return Graph(names, [one for one in combinations(names, 2) if source.random() < share])
+
+
+def random_probability(source, most):
+    """Return a Ratio from 0 to a limit of few digits, so that sums may be exactly 0."""
+    below = source.choice([1, 2, 3, 4, 6, 8, 12])
+    return Ratio(source.randint(0, below), below).multiply(most)
+
+
+def graphs_with_probabilities(count, seed, most=6):
+    """Return graphs with probabilities that are the same in each run of the tests, of either verdict."""
+    source, found = random.Random(seed), []
+    for _ in range(count):
+        graph = random_graph(source, source.randint(1, most), source.random())
+        greatest = Ratio(1, source.choice([1, 2, 3, 4, 6]))
+        found.append((graph, {name: random_probability(source, greatest) for name in graph.names()}))
+    return found

@@ -48,6 +48,32 @@ FUNCTIONS = {
         "Heap": "(problem, pieces=())",
         "heap_of": "(sampler)",
     },
+    "replay": {
+        "consumed_values": "(heap, assignment)",
+        "build_sampler": "(heap, assignment, *, extra=None)",
+        "check_run": "(problem, tapes, history, assignment)",
+        "rewind_sampler": "(sampler)",
+        "first_difference": "(one, other)",
+    },
+    "counting": {
+        "independent_sets": "(problem)",
+        "signed_counts": "(problem)",
+        "heap_counts": "(problem, *, up_to=12)",
+        "list_heaps": "(problem, size, *, limit=300)",
+        "heap_weight": "(heap)",
+        "weights_by_size": "(problem, *, up_to=12)",
+        "valid_probability": "(problem)",
+        "count_tapes": "(heap, lengths)",
+    },
+    "graphs": {
+        "Graph": "(names, edges=())",
+        "dependency_graph": "(problem)",
+        "independence_value": "(graph, probabilities, *, subset=None)",
+        "independent_name_sets": "(graph)",
+        "find_certificate": "(graph, probabilities, *, order=None)",
+        "check_certificate": "(graph, probabilities, value)",
+        "lower_bound": "(graph, probabilities, value)",
+    },
 }
 METHODS = {
     "ratios.Ratio": {
@@ -73,6 +99,10 @@ METHODS = {
         "reversed_heap": "(self)", "is_order": "(self, value)", "orders": "(self, *, limit=500)",
         "dropped": "(self, variable)", "is_lower_part_of": "(self, other)", "__eq__": "(self, other)",
         "__len__": "(self)", "__str__": "(self)",
+    },
+    "graphs.Graph": {
+        "names": "(self)", "edges": "(self)", "are_adjacent": "(self, one, other)", "neighbors": "(self, name)",
+        "__eq__": "(self, other)", "__len__": "(self)",
     },
 }
 

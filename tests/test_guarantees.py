@@ -1,9 +1,12 @@
-"""Promises over problems, samplers and heaps together."""
+"""Promises over several modules together."""
 
 import random
 
+from resampler.counting import heap_counts, independent_sets, list_heaps, signed_counts, valid_probability, weights_by_size
+from resampler.graphs import check_certificate, dependency_graph, find_certificate, lower_bound
 from resampler.heaps import Heap, heap_of
 from resampler.problems import Problem, find_overlap, is_exclusive, valid_assignments
+from resampler.replay import build_sampler, check_run, consumed_values, first_difference
 from resampler.sampler import Sampler, choose_last, round_robin, run_sampler
 from tests.support import (PackageTest, demo, made_exclusive, pair, problems, random_history, random_tapes, rows_of)
 
@@ -105,6 +108,23 @@ class ExclusiveProblems(PackageTest):
                 run_sampler(sampler, source.choice)
                 self.assertEqual([heap_of(sampler), sampler.assignment()], [heap, assignment])
 
+    def test_built_samplers_lead_to_heap_and_assignment(self):
+        source, seen = random.Random(96), 0
+        for problem in exclusive_problems(120, 96):
+            heap = Heap(problem, random_history(source, problem, source.randint(0, 6)))
+            for assignment in valid_assignments(problem)[:4]:
+                more = {name: tape for name, tape in random_tapes(source, problem).items() if source.random() < 0.7}
+                for extra in (None, {name: [] for name in more}, more):
+                    sampler = build_sampler(heap, assignment, extra=extra)
+                    for one in all_endings(sampler):
+                        self.assertEqual([heap_of(one), one.assignment(), one.is_valid()], [heap, assignment, True])
+                        seen += len(heap)
+                    for choose in (None, choose_last, round_robin(1), source.choice):
+                        one = sampler.copied()
+                        self.assertEqual(run_sampler(one, choose), len(heap))
+                        self.assertEqual([heap_of(one), one.assignment()], [heap, assignment])
+        self.assertGreater(seen, 2000)
+
     def test_only_exclusive_problems_promise_it(self):
         problem = Problem([("a", 2)], [("x", ["a"], [(1,)]), ("y", ["a"], [(1,)])])
         endings = all_endings(Sampler(problem, {"a": [1, 0]}))
@@ -124,6 +144,23 @@ class AllProblems(PackageTest):
             for event, values in source.choice(heap_of(sampler).orders()):
                 self.assertEqual(again.resample(event), values)
             self.assertEqual([heap_of(again), again.assignment()], [heap_of(sampler), sampler.assignment()])
+            self.assertEqual(consumed_values(heap_of(sampler), sampler.assignment()), consumed)
+            self.assertIs(check_run(problem, consumed, again.history(), sampler.assignment()), True)
+
+    def test_bounds_of_exclusive_problems(self):
+        seen = 0
+        for problem in exclusive_problems(60, 97):
+            if len(problem):
+                graph = dependency_graph(problem)
+                probabilities = {event: problem.probability(event) for event in problem.events()}
+                value = find_certificate(graph, probabilities)
+                self.assertIs(check_certificate(graph, probabilities, value), True)
+                if value[0] == "positive":
+                    self.assertEqual(lower_bound(graph, probabilities, value), valid_probability(problem))
+                    seen += 1
+                else:
+                    self.assertEqual(valid_assignments(problem), [])
+        self.assertGreater(seen, 20)
 
     def test_renaming_changes_the_names_only(self):
         source = random.Random(95)
@@ -145,3 +182,14 @@ class AllProblems(PackageTest):
             self.assertEqual([two.assignment(), two.is_valid()], [one.assignment(), one.is_valid()])
             self.assertEqual(heap_of(two).layers(), [[(events[event], values) for event, values in layer]
                                                      for layer in heap_of(one).layers()])
+            self.assertEqual(independent_sets(other), [tuple([events[event] for event in chosen])
+                                                       for chosen in independent_sets(problem)])
+            for action in (signed_counts, heap_counts, weights_by_size):
+                self.assertEqual(action(other), action(problem))
+            self.assertEqual([[(events[event], values) for event, values in heap.pieces()]
+                              for heap in list_heaps(problem, 1)], [heap.pieces() for heap in list_heaps(other, 1)])
+            self.assertEqual(first_difference(two, Sampler(other, {names[name]: tapes[name] for name in tapes})),
+                             first_difference(one, Sampler(problem, tapes)))
+            if len(problem):
+                self.assertEqual(dependency_graph(other).edges(), [(events[first], events[second]) for first, second
+                                                                   in dependency_graph(problem).edges()])

@@ -2,13 +2,19 @@
 
 import random
 
+from resampler.counting import (count_tapes, heap_counts, heap_weight, independent_sets, list_heaps, signed_counts,
+                                valid_probability, weights_by_size)
 from resampler.errors import TooLarge
+from resampler.graphs import (Graph, check_certificate, dependency_graph, find_certificate, independence_value,
+                              independent_name_sets, lower_bound)
 from resampler.heaps import Heap, heap_of
 from resampler.problems import (Problem, combine_problems, find_overlap, is_exclusive, shows_overlap,
                                 valid_assignments, without_events)
+from resampler.ratios import Ratio
+from resampler.replay import build_sampler, check_run, consumed_values, first_difference, rewind_sampler
 from resampler.sampler import Sampler, choose_last, round_robin, run_sampler
 from tests.support import (EVENT_NAMES, VARIABLE_NAMES, PackageTest, largest_exclusive, largest_problem, made_exclusive,
-                           pieces_of, rows_of)
+                           pieces_of, random_graph, rows_of)
 
 
 def largest_problems():
@@ -159,3 +165,90 @@ class Heaps(PackageTest):
         with self.assertRaises(TooLarge) as context:
             self.timed(Heap(problem, apart + chain * 231 + apart + chain).orders, limit=500)
         self.assertEqual(context.exception.count, 501)
+
+
+class Replay(PackageTest):
+    def test_longest_runs(self):
+        problem = single_events(5)
+        tapes = {name: [1, 2, 3, 4, 5] * 8 for name in "abcde"}
+        sampler = Sampler(problem, tapes)
+        run_sampler(sampler, round_robin())
+        heap, ending = heap_of(sampler), sampler.assignment()
+        self.assertEqual(self.timed(consumed_values, heap, ending), tapes)
+        self.assertEqual(self.timed(build_sampler, heap, ending), Sampler(problem, tapes))
+        self.assertIs(self.timed(check_run, problem, tapes, sampler.history(), ending), True)
+        self.assertIs(self.timed(check_run, problem, tapes, sampler.history() * 20, ending), False)
+        self.assertEqual(self.timed(rewind_sampler, sampler), Sampler(problem, tapes))
+        other = Sampler(problem, tapes)
+        run_sampler(other, choose_last)
+        self.assertEqual(self.timed(first_difference, sampler, other), ("history", 0))
+        other = Sampler(problem, {**tapes, "e": tapes["e"][:39]})
+        self.assertEqual(self.timed(first_difference, rewind_sampler(sampler), other), ("remaining", "e"))
+
+    def test_largest_heaps(self):
+        source = random.Random(73)
+        for problem in largest_problems():
+            pieces = pieces_of(problem)
+            for history in ([source.choice(pieces) for _ in range(240)], [pieces[0]] * 240):
+                heap = Heap(problem, history)
+                self.assertEqual(len(self.timed(consumed_values, heap, (5,) * 8)), 8)
+                with self.assertRaises(TooLarge):
+                    self.timed(build_sampler, heap, (5,) * 8)
+
+
+class Counting(PackageTest):
+    def test_counts(self):
+        for problem in largest_problems() + [single_events(8), gate()]:
+            sets = self.timed(independent_sets, problem)
+            signed, counts = self.timed(signed_counts, problem), self.timed(heap_counts, problem)
+            self.assertEqual([len(counts), counts[1]], [13, len(pieces_of(problem))])
+            self.assertEqual(len(signed), len(sets[-1]) + 1)
+            for size, total in enumerate(self.timed(weights_by_size, problem)):
+                self.assertEqual([total.sign(), counts[size] > 0], [1, True])
+        self.assertEqual(len(self.timed(independent_sets, single_events(8))), 256)
+
+    def test_lists(self):
+        two = Problem([(name, 6) for name in VARIABLE_NAMES], [("x", VARIABLE_NAMES[:4], [(0, 0, 0, 0)]),
+                                                              ("y", VARIABLE_NAMES[4:], [(5, 5, 5, 5)])])
+        self.assertEqual(len(self.timed(list_heaps, two, 12)), 13)
+        three = Problem([("a", 6), ("b", 6), ("c", 6)], [(name, [name], [(0,)]) for name in "abc"])
+        self.assertEqual(len(self.timed(list_heaps, three, 12)), 91)
+        self.assertEqual(len(self.timed(list_heaps, largest_problem(), 1)), 96)
+        wide = Problem([(name, 6) for name in VARIABLE_NAMES],
+                       [(name, [name], [(value,) for value in range(2 if name == "h" else 3)]) for name in VARIABLE_NAMES])
+        self.assertEqual(len(self.timed(list_heaps, wide, 2)), 298)
+        with self.assertRaises(TooLarge):
+            self.timed(list_heaps, largest_problem(), 12)
+
+    def test_weights_and_probabilities(self):
+        source = random.Random(74)
+        for problem in largest_problems():
+            pieces = pieces_of(problem)
+            heap = Heap(problem, [source.choice(pieces) for _ in range(240)])
+            self.assertEqual(self.timed(heap_weight, heap), Ratio(1, 1296 ** 240))
+            if is_exclusive(problem):
+                self.assertEqual(self.timed(valid_probability, problem).sign(), 1)
+                self.assertEqual(self.timed(count_tapes, heap, {name: 25 for name in VARIABLE_NAMES}), 0)
+                self.assertEqual(self.timed(count_tapes, Heap(problem), {name: 25 for name in VARIABLE_NAMES}), 6 ** 192)
+
+
+class Graphs(PackageTest):
+    def graphs(self):
+        source = random.Random(75)
+        yield Graph(EVENT_NAMES)
+        yield dependency_graph(largest_problem())
+        for share in (0.1, 0.3, 0.5, 0.7, 1):
+            for _ in range(4):
+                yield random_graph(source, 8, share)
+
+    def test_certificates(self):
+        source, big = random.Random(76), 10 ** 29
+        for graph in self.graphs():
+            self.timed(independent_name_sets, graph)
+            for most in (9 * big, big):
+                probabilities = {name: Ratio(source.randint(1, most), 9 * big + 7) for name in graph.names()}
+                value = self.timed(independence_value, graph, probabilities)
+                found = self.timed(find_certificate, graph, probabilities, order=source.sample(graph.names(), 8))
+                self.assertIs(self.timed(check_certificate, graph, probabilities, found), True)
+                if found[0] == "positive":
+                    self.assertEqual(self.timed(lower_bound, graph, probabilities, found), value)
