@@ -71,7 +71,6 @@ def weights_by_size(problem, *, up_to=12):
 
 def valid_probability(problem):
     """Return the probability that an assignment of an exclusive problem is valid."""
-    check_problem(problem)
     _check_exclusive(problem)
     return ratio_sum(_signed_sums(problem, _probabilities(problem)))
 

@@ -3,7 +3,7 @@
 from resampler.checks import is_list
 from resampler.errors import InvalidAssignment, InvalidTapes, Mismatch, TooLarge
 from resampler.heaps import check_heap
-from resampler.sampler import MOST_VALUES, MOST_VALUES_OF_TAPE, Sampler, check_sampler
+from resampler.sampler import MOST_VALUES_OF_TAPE, Sampler, check_sampler
 from resampler.validation import is_integer
 
 
@@ -27,9 +27,7 @@ def build_sampler(heap, assignment, *, extra=None):
     for tape in tapes.values():
         if len(tape) > MOST_VALUES_OF_TAPE:
             raise TooLarge(len(tape))
-    count = sum([len(tape) for tape in tapes.values()])
-    if count > MOST_VALUES:
-        raise TooLarge(count)
+    # The sampler refuses too many values of all tapes together.
     return Sampler(heap.problem(), tapes)
 
 

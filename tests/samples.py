@@ -6,6 +6,8 @@ from resampler.heaps import Heap
 from resampler.problems import Problem
 from resampler.ratios import Ratio
 from resampler.sampler import Sampler, choose_last, round_robin
+from resampler.session import Session
+from resampler.tables import Table
 
 
 def double(value):
@@ -20,7 +22,7 @@ def objects():
     """Return objects of the package; a problem, a sampler and a heap come first."""
     problem = Problem([("a", 2)], [("x", ["a"], [(1,)])])
     return [problem, Sampler(problem, {"a": [1, 0]}), Heap(problem, [("x", (1,))]), Problem([("a", 1)]),
-            Graph(["x", "y"], [("x", "y")]), choose_last, round_robin(2), InvalidName("a")]
+            Graph(["x", "y"], [("x", "y")]), Table([1, 2], [("x", [0])]), Session(), choose_last, round_robin(2), InvalidName("a")]
 
 
 def neither_strings_nor_numbers():

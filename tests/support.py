@@ -7,6 +7,7 @@ from fractions import Fraction
 from itertools import combinations, product
 
 from resampler.graphs import Graph
+from resampler.heaps import Heap
 from resampler.problems import Problem
 from resampler.ratios import Ratio
 
@@ -83,6 +84,10 @@ def long_names():
                                                  ("low", ["left"], [(1,)]), ("never", ["right"], [])])
 
 
+def names_of(problem):
+    return [name for name, _ in problem.variables()]
+
+
 def rows_of(problem):
     return [(event, problem.scope(event), problem.bad_tuples(event)) for event in problem.events()]
 
@@ -153,6 +158,14 @@ def random_tapes(source, problem, longest=5):
 def random_history(source, problem, length):
     pieces = pieces_of(problem)
     return [source.choice(pieces) for _ in range(length)] if pieces else []
+
+
+def eventful_tapes(source, problem):
+    """Return tapes of which a random number of values lead through a random history."""
+    heap = Heap(problem, random_history(source, problem, source.randint(0, 7)))
+    more = random_tapes(source, problem, longest=3)
+    tapes = {name: heap.dropped(name) + more[name] for name in more}
+    return {name: tape[:source.randint(1, len(tape) + 3)] for name, tape in tapes.items()}
 
 
 def problems(count, seed, **limits):

@@ -12,14 +12,10 @@ from resampler.problems import Problem, find_overlap, valid_assignments
 from resampler.ratios import Ratio
 from resampler.sampler import Sampler, run_sampler
 from tests.samples import all_values, non_integers_from, without_kind
-from tests.support import (EVENT_NAMES, VARIABLE_NAMES, PackageTest, demo, fraction, long_names, made_exclusive, pair,
-                           pieces_of, problems, random_history, shares)
+from tests.support import (EVENT_NAMES, VARIABLE_NAMES, PackageTest, demo, fraction, long_names, made_exclusive, names_of,
+                           pair, pieces_of, problems, random_history, shares)
 
 X, Y = ("x", (0, 0)), ("y", (1, 1))
-
-
-def names_of(problem):
-    return [name for name, _ in problem.variables()]
 
 
 def overlapping():

@@ -74,6 +74,33 @@ FUNCTIONS = {
         "check_certificate": "(graph, probabilities, value)",
         "lower_bound": "(graph, probabilities, value)",
     },
+    "tables": {
+        "Table": "(weights, events)",
+        "find_dependence": "(table, graph)",
+        "table_of": "(problem)",
+        "build_table": "(graph, probabilities, value)",
+        "check_table": "(graph, probabilities, value)",
+    },
+    "trees": {
+        "witness_tree": "(problem, history, step)",
+        "witness_trees": "(problem, history)",
+        "tree_values": "(problem, rows)",
+        "check_tree": "(problem, history, step, value)",
+        "fits_tapes": "(problem, tapes, rows)",
+    },
+    "textio": {
+        "problem_text": "(problem)",
+        "parse_problem": "(text)",
+        "tapes_text": "(problem, tapes)",
+        "parse_tapes": "(problem, text)",
+        "history_text": "(problem, history)",
+        "parse_history": "(problem, text)",
+        "graph_text": "(graph)",
+        "parse_graph": "(text)",
+    },
+    "session": {
+        "Session": "(*, max_samplers=6)",
+    },
 }
 METHODS = {
     "ratios.Ratio": {
@@ -103,6 +130,14 @@ METHODS = {
     "graphs.Graph": {
         "names": "(self)", "edges": "(self)", "are_adjacent": "(self, one, other)", "neighbors": "(self, name)",
         "__eq__": "(self, other)", "__len__": "(self)",
+    },
+    "tables.Table": {
+        "weights": "(self)", "events": "(self)", "probability": "(self, name)", "joint_probability": "(self, names)",
+        "none_probability": "(self)", "__eq__": "(self, other)", "__len__": "(self)",
+    },
+    "session.Session": {
+        "problem": "(self)", "names": "(self)", "sampler": "(self, name)", "log": "(self)", "execute": "(self, line)",
+        "execute_all": "(self, lines)",
     },
 }
 

@@ -8,11 +8,13 @@ from resampler.heaps import Heap, heap_of
 from resampler.problems import Problem, find_overlap, is_exclusive, valid_assignments
 from resampler.replay import build_sampler, check_run, consumed_values, first_difference
 from resampler.sampler import Sampler, choose_last, round_robin, run_sampler
-from tests.support import (PackageTest, demo, made_exclusive, pair, problems, random_history, random_tapes, rows_of)
-
-
-def names_of(problem):
-    return [name for name, _ in problem.variables()]
+from resampler.session import Session
+from resampler.tables import build_table, check_table, find_dependence, table_of
+from resampler.textio import (graph_text, history_text, parse_graph, parse_history, parse_problem, parse_tapes,
+                              problem_text, tapes_text)
+from resampler.trees import fits_tapes, tree_values, witness_trees
+from tests.support import (PackageTest, demo, eventful_tapes, graphs_with_probabilities, made_exclusive, names_of, pair,
+                           problems, random_history, random_tapes, rows_of)
 
 
 def all_endings(sampler):
@@ -51,12 +53,10 @@ def tapes_for(heap, assignment):
     return {name: heap.dropped(name) + [value] for name, value in zip(names_of(heap.problem()), assignment)}
 
 
-def eventful_tapes(source, problem):
-    """Return tapes of which a random number of values lead through a random history."""
-    heap = Heap(problem, random_history(source, problem, source.randint(0, 7)))
-    more = random_tapes(source, problem, longest=3)
-    tapes = {name: heap.dropped(name) + more[name] for name in more}
-    return {name: tape[:source.randint(1, len(tape) + 3)] for name, tape in tapes.items()}
+def rare_problems(count, seed):
+    """Return problems whose events have at most one bad tuple, so that they can be avoided more often."""
+    return [Problem(problem.variables(), [(event, scope, bad_tuples[:1]) for event, scope, bad_tuples in rows_of(problem)])
+            for problem in problems(count, seed)]
 
 
 class ExclusiveProblems(PackageTest):
@@ -162,6 +162,74 @@ class AllProblems(PackageTest):
                     self.assertEqual(valid_assignments(problem), [])
         self.assertGreater(seen, 20)
 
+    def test_bounds_hold_in_the_tables_of_problems(self):
+        seen = []
+        for problem in rare_problems(200, 98) + exclusive_problems(60, 99):
+            if len(problem) == 0:
+                continue
+            graph, table = dependency_graph(problem), table_of(problem)
+            probabilities = {event: problem.probability(event) for event in problem.events()}
+            self.assertEqual([table.probability(event) for event in problem.events()], list(probabilities.values()))
+            self.assertIsNone(find_dependence(table, graph))
+            value = find_certificate(graph, probabilities)
+            if value[0] == "positive":
+                bound = lower_bound(graph, probabilities, value)
+                self.assertIs(table.none_probability().less_than(bound), False)
+                if is_exclusive(problem):
+                    self.assertEqual(table.none_probability(), bound)
+                    self.assertEqual(bound, valid_probability(problem))
+                seen.append((is_exclusive(problem), table.none_probability() == bound))
+        for kind in ((True, True), (False, False)):
+            self.assertGreater(seen.count(kind), 20)
+
+    def test_either_a_bound_or_a_table(self):
+        verdicts = []
+        for graph, probabilities in graphs_with_probabilities(120, 100):
+            value = find_certificate(graph, probabilities)
+            self.assertIs(check_certificate(graph, probabilities, value), True)
+            verdicts.append(value[0])
+            if value[0] == "positive":
+                self.assertEqual(lower_bound(graph, probabilities, value).sign(), 1)
+            else:
+                self.assertIs(check_table(graph, probabilities, build_table(graph, probabilities, value)), True)
+        self.assertGreater(min(verdicts.count("positive"), verdicts.count("not_positive")), 20)
+
+    def test_trees_differ_and_fit_the_tapes(self):
+        source, seen = random.Random(101), 0
+        for problem in problems(100, 101):
+            tapes = random_tapes(source, problem, longest=12)
+            sampler = Sampler(problem, tapes)
+            run_sampler(sampler, source.choice)
+            trees = witness_trees(problem, sampler.history())
+            self.assertEqual(len({tuple(rows) for rows in trees}), len(sampler))
+            for rows in trees:
+                self.assertIs(fits_tapes(problem, tapes, rows), True)
+                for variable, position, value in tree_values(problem, rows):
+                    self.assertEqual(sampler.dropped(variable)[position], value)
+                    seen += 1
+        self.assertGreater(seen, 500)
+
+    def test_texts_are_read_back(self):
+        source = random.Random(102)
+        for problem in problems(80, 102, variables=6, size=6, events=6):
+            tapes, history = random_tapes(source, problem), random_history(source, problem, 7)
+            self.assertEqual(parse_problem(problem_text(problem)), problem)
+            self.assertEqual(parse_tapes(problem, tapes_text(problem, tapes)), tapes)
+            self.assertEqual(parse_history(problem, history_text(problem, history)), history)
+            if len(problem):
+                self.assertEqual(parse_graph(graph_text(dependency_graph(problem))), dependency_graph(problem))
+
+    def test_sessions_say_what_the_functions_return(self):
+        source = random.Random(103)
+        for problem in problems(60, 103):
+            session, tapes = Session(), eventful_tapes(source, problem)
+            text = tapes_text(problem, tapes).replace("\n", " / ")
+            session.execute_all(["problem " + problem_text(problem).replace("\n", " / "), "sampler s " + text, "run s last"])
+            sampler = Sampler(problem, tapes)
+            run_sampler(sampler, choose_last)
+            self.assertEqual([session.problem(), session.sampler("s")], [problem, sampler])
+            self.assertEqual(parse_history(problem, "\n".join(session.execute("history s"))), sampler.history())
+
     def test_renaming_changes_the_names_only(self):
         source = random.Random(95)
         for problem in problems(100, 95):
@@ -193,3 +261,8 @@ class AllProblems(PackageTest):
             if len(problem):
                 self.assertEqual(dependency_graph(other).edges(), [(events[first], events[second]) for first, second
                                                                    in dependency_graph(problem).edges()])
+                self.assertEqual(table_of(other).events(), [(events[event], outcomes)
+                                                            for event, outcomes in table_of(problem).events()])
+            self.assertEqual(witness_trees(other, two.history()), [
+                [(depth, events[event], values, parent) for depth, event, values, parent in rows]
+                for rows in witness_trees(problem, one.history())])

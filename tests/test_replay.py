@@ -8,15 +8,11 @@ from resampler.problems import Problem
 from resampler.replay import build_sampler, check_run, consumed_values, first_difference, rewind_sampler
 from resampler.sampler import Sampler, choose_last, round_robin, run_sampler
 from tests.samples import all_values, non_lists, without_kind
-from tests.support import (VARIABLE_NAMES, PackageTest, all_assignments, demo, happens, long_names, pair, pieces_of,
-                           problems, random_history, random_tapes, values_of_scope)
+from tests.support import (VARIABLE_NAMES, PackageTest, all_assignments, demo, happens, long_names, names_of, pair,
+                           pieces_of, problems, random_history, random_tapes, values_of_scope)
 
 X, Y = ("x", (0, 0)), ("y", (1, 1))
 TAPES = {"a": [0, 1], "b": [0, 1, 0], "c": [1, 0]}
-
-
-def names_of(problem):
-    return [name for name, _ in problem.variables()]
 
 
 def heap_of_three():

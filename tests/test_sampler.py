@@ -6,18 +6,14 @@ from resampler.errors import (InvalidChoice, InvalidInteger, InvalidProblem, Inv
 from resampler.problems import Problem
 from resampler.sampler import Sampler, choose_last, round_robin, run_sampler
 from tests.samples import all_values, non_integers, non_integers_from, non_lists, without_kind
-from tests.support import (VARIABLE_NAMES, PackageTest, demo, fresh, happens, long_names, pair, problems, random_tapes,
-                           values_of_scope)
+from tests.support import (VARIABLE_NAMES, PackageTest, demo, fresh, happens, long_names, names_of, pair, problems,
+                           random_tapes, values_of_scope)
 
 TAPES = {"a": [0, 1], "b": [0, 1, 0], "c": [1, 0]}
 
 
 def demo_sampler():
     return Sampler(demo(), TAPES)
-
-
-def names_of(problem):
-    return [name for name, _ in problem.variables()]
 
 
 def parts(sampler):

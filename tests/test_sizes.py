@@ -4,7 +4,7 @@ import random
 
 from resampler.counting import (count_tapes, heap_counts, heap_weight, independent_sets, list_heaps, signed_counts,
                                 valid_probability, weights_by_size)
-from resampler.errors import TooLarge
+from resampler.errors import InvalidLine, TooLarge
 from resampler.graphs import (Graph, check_certificate, dependency_graph, find_certificate, independence_value,
                               independent_name_sets, lower_bound)
 from resampler.heaps import Heap, heap_of
@@ -13,6 +13,11 @@ from resampler.problems import (Problem, combine_problems, find_overlap, is_excl
 from resampler.ratios import Ratio
 from resampler.replay import build_sampler, check_run, consumed_values, first_difference, rewind_sampler
 from resampler.sampler import Sampler, choose_last, round_robin, run_sampler
+from resampler.session import Session
+from resampler.tables import Table, build_table, check_table, find_dependence, table_of
+from resampler.textio import (graph_text, history_text, parse_graph, parse_history, parse_problem, parse_tapes,
+                              problem_text, tapes_text)
+from resampler.trees import check_tree, fits_tapes, tree_values, witness_tree, witness_trees
 from tests.support import (EVENT_NAMES, VARIABLE_NAMES, PackageTest, largest_exclusive, largest_problem, made_exclusive,
                            pieces_of, random_graph, rows_of)
 
@@ -252,3 +257,117 @@ class Graphs(PackageTest):
                 self.assertIs(self.timed(check_certificate, graph, probabilities, found), True)
                 if found[0] == "positive":
                     self.assertEqual(self.timed(lower_bound, graph, probabilities, found), value)
+
+
+class Tables(PackageTest):
+    def tables(self):
+        source = random.Random(77)
+        for most in (1, 5, 10 ** 30, 10 ** 400):
+            weights = [source.randint(1, most) for _ in range(600)]
+            yield Table(weights, [(name, source.sample(range(600), 300)) for name in EVENT_NAMES])
+        yield Table([1] * 512 + [0] * 88, [(name, [at for at in range(512) if at >> place & 1])
+                                           for place, name in enumerate(EVENT_NAMES)])
+
+    def test_reading(self):
+        for table in self.tables():
+            self.assertEqual(self.timed(Table, table.weights(), table.events()), table)
+            self.assertEqual([len(table), len(self.timed(table.events))], [600, 8])
+            for name in EVENT_NAMES:
+                self.timed(table.probability, name)
+            self.timed(table.joint_probability, EVENT_NAMES)
+            self.timed(table.none_probability)
+
+    def test_dependences(self):
+        found = [self.timed(find_dependence, table, Graph(EVENT_NAMES)) for table in self.tables()]
+        self.assertEqual([one is None for one in found], [False] * 4 + [True])
+
+    def test_tables_of_problems(self):
+        problem = Problem(list(zip(VARIABLE_NAMES, [2, 2, 2, 3, 5, 5, 1, 1])),
+                          [(name, VARIABLE_NAMES[at % 5:at % 5 + 4], [(0, 1, 0, 0), (1, 1, 1, 0)][:1])
+                           for at, name in enumerate(EVENT_NAMES)])
+        table = self.timed(table_of, problem)
+        self.assertEqual([len(table), self.timed(find_dependence, table, dependency_graph(problem))], [600, None])
+
+    def test_built_tables(self):
+        source, big, seen = random.Random(78), 10 ** 29, 0
+        for share in (0, 0.2, 0.4, 0.6, 0.8, 1):
+            for most in (3 * big, 5 * big, 9 * big):
+                graph = random_graph(source, 8, share)
+                probabilities = {name: Ratio(source.randint(most // 2, most), 9 * big + 7) for name in graph.names()}
+                probabilities[graph.names()[7]] = Ratio(1)
+                value = find_certificate(graph, probabilities)
+                table = self.timed(build_table, graph, probabilities, value)
+                self.assertIs(self.timed(check_table, graph, probabilities, table), True)
+                self.assertLessEqual(len(table), 512)
+                seen = max(seen, len(table))
+        self.assertGreater(seen, 100)
+
+
+class Trees(PackageTest):
+    def test_longest_histories(self):
+        source = random.Random(79)
+        for problem in largest_problems() + [gate()]:
+            pieces, tapes = pieces_of(problem), {name: [0] * 25 for name, _ in problem.variables()}
+            for history in ([source.choice(pieces) for _ in range(240)], [pieces[0]] * 240):
+                rows = self.timed(witness_tree, problem, history, 239)
+                trees = self.timed(witness_trees, problem, history)
+                self.assertEqual([len(trees), trees[239]], [240, rows])
+                self.assertIs(self.timed(check_tree, problem, history, 239, rows), True)
+                self.assertIs(self.timed(check_tree, problem, history, 239, rows + rows[:1]), False)
+                self.assertGreaterEqual(len(self.timed(tree_values, problem, rows)), len(rows))
+                self.timed(fits_tapes, problem, tapes, rows)
+            self.assertEqual(len(rows), 240)
+
+
+class Texts(PackageTest):
+    def test_longest_texts(self):
+        source = random.Random(80)
+        for problem in largest_problems():
+            self.assertEqual(self.timed(parse_problem, self.timed(problem_text, problem)), problem)
+            tapes = {name: [source.randrange(6) for _ in range(25)] for name in VARIABLE_NAMES}
+            self.assertEqual(self.timed(parse_tapes, problem, self.timed(tapes_text, problem, tapes)), tapes)
+            history = [source.choice(pieces_of(problem)) for _ in range(240)]
+            self.assertEqual(self.timed(parse_history, problem, self.timed(history_text, problem, history)), history)
+        graph = Graph(EVENT_NAMES, [(one, other) for at, one in enumerate(EVENT_NAMES) for other in EVENT_NAMES[:at]])
+        self.assertEqual(self.timed(parse_graph, self.timed(graph_text, graph)), graph)
+
+    def test_wrong_texts(self):
+        for text in ("a" * 4000, " " * 4000, "\n" * 4000, "a\n" * 2000, "0 " * 2000, ":" * 4000, "variable a 2\n" * 307,
+                     "tape a" + " 0" * 1997, "event x a : " + "0," * 1994, "name x\n" * 571, "x:" + "0" * 3998):
+            for action in (parse_problem, parse_graph, lambda text: parse_tapes(largest_problem(), text),
+                           lambda text: parse_history(largest_problem(), text)):
+                with self.assertRaises(InvalidLine):
+                    self.timed(action, text)
+
+
+class Sessions(PackageTest):
+    def test_six_samplers(self):
+        source, names = random.Random(81), "pqrstu"
+        for problem in largest_problems():
+            session = Session()
+            self.timed(session.execute, "problem " + problem_text(problem).replace("\n", " / "))
+            for name in names:
+                tapes = {variable: [source.randrange(6) for _ in range(25)] for variable in VARIABLE_NAMES}
+                self.timed(session.execute, f"sampler {name} " + tapes_text(problem, tapes).replace("\n", " / "))
+                self.timed(session.execute, f"run {name} turns 7")
+            self.assertEqual(len(self.timed(session.execute, "samplers")), 6)
+            for line in ("show", "counts 12", "bound", "state p", "history q", "heap r", "compare s t", "copy s z"):
+                try:
+                    self.timed(session.execute, line)
+                except TooLarge:
+                    self.assertEqual(line, "copy s z")
+            self.timed(session.execute_all, ["show", "counts 12", "state p", "heap p"] * 10)
+            self.assertEqual(session.names(), list(names))
+
+    def test_longest_samplers(self):
+        session = Session()
+        session.execute("problem " + problem_text(single_events(5)).replace("\n", " / "))
+        text = " / ".join([f"tape {name}" + " 0 1 2 3 4" * 8 for name in "abcde"])
+        for name in "pqrstu":
+            session.execute(f"sampler {name} {text}")
+        answers = self.timed(session.execute_all, [f"run {name} turns {at}" for at, name in enumerate("pqrstu")])
+        self.assertEqual(answers, [["195"]] * 6)
+        for line in ("tree p 194", "heap q", "history r", "compare s t", "samplers"):
+            self.timed(session.execute, line)
+        self.timed(session.execute_all, [f"undo {name}" for name in "pqrstu"] * 6 + ["samplers", "heap p", "tree u 150"])
+        self.assertEqual([len(session.sampler(name)) for name in "pu"], [189, 189])
